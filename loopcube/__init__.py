@@ -1,0 +1,1 @@
+"""Loopcube: closed cords, their cube of openings, and what no move changes."""

@@ -1,0 +1,33 @@
+"""The interface: each name stands in its module, with its arguments by their places."""
+
+import importlib
+import inspect
+import unittest
+
+INTERFACE = {
+    "loopcube.tables": {
+        "is_table": ["thing"], "unit": ["many"], "nought": ["high", "wide"], "turned": ["one"],
+        "plus": ["one", "other"], "many_times": ["number", "one"], "product": ["one", "other"],
+    },
+    "loopcube.plainform": {"plain_form": ["one"], "divisors": ["one"]},
+    "loopcube.drawings": {
+        "is_drawing": ["thing"], "names_of": ["drawing"], "cords": ["drawing"],
+        "face_at": ["drawing", "name", "side"], "signs": ["drawing"], "mirrored": ["drawing"],
+        "turned_about": ["drawing"], "named_anew": ["drawing", "by"], "beside": ["one", "other"],
+        "knit": ["one", "name", "other", "other_name"], "closing": ["strands", "letters"],
+    },
+}
+
+
+class Interface(unittest.TestCase):
+    def test_functions(self):
+        for module_name, functions in INTERFACE.items():
+            module = importlib.import_module(module_name)
+            for name, arguments in functions.items():
+                function = getattr(module, name)
+                self.assertEqual(function.__module__, module_name)
+                self.assertEqual(list(inspect.signature(function).parameters), arguments, name)
+
+
+if __name__ == "__main__":
+    unittest.main()
