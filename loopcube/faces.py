@@ -5,6 +5,7 @@ always at the left hand.
 """
 
 from loopcube.ends import OVER_OUT, UNDER_OUT, ins_of, outs_of, with_the_clock
+from loopcube.hanging import hung_together
 
 SIDES = ("left", "right")
 
@@ -51,29 +52,7 @@ def next_side(crossings, ins, outs, place):
 
 def pieces(crossings):
     """For each stretch a number of its piece: alike for those that hang together by crossings."""
-    met = {}
-    for k, crossing in enumerate(crossings):
-        for name in crossing[1:]:
-            met.setdefault(name, []).append(k)
-    marks = {}
-    for start in met:
-        if start not in marks:
-            mark_piece(crossings, met, marks, start)
-    return marks
-
-
-def mark_piece(crossings, met, marks, start):
-    """All that hangs together with a stretch gets one number that is not yet used."""
-    mark = len(marks)
-    marks[start] = mark
-    waiting = [start]
-    while waiting:
-        stretch = waiting.pop()
-        for k in met[stretch]:
-            for name in crossings[k][1:]:
-                if name not in marks:
-                    marks[name] = mark
-                    waiting.append(name)
+    return hung_together([crossing[1:] for crossing in crossings])
 
 
 def is_flat(crossings):

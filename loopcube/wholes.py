@@ -11,6 +11,11 @@ def are_wholes(things):
     return all(is_whole(thing) for thing in things)
 
 
+def is_place(thing, many):
+    """Whether any thing is a place in a list of so many, from 0 on."""
+    return is_whole(thing) and 0 <= thing < many
+
+
 def common_divisor(one, other):
     """(g, s, t): the greatest common divisor g of both, which is s times one plus t times other."""
     s, next_s = 1, 0

@@ -185,3 +185,33 @@ def piece_count(crossings):
             names.union(*[part for part in parts if part & names])
         ]
     return len(parts)
+
+
+def no_names(drawing):
+    """Things of all kinds that are no name of the drawing."""
+    names = names_of(drawing)
+    things = any_things() + [max(names + [0]) + 1, min(names + [0]) - 1, 10 ** 59 + 7]
+    return [thing for thing in things if type(thing) is not int or thing not in names]
+
+
+def no_places(many):
+    """Things of all kinds that are no place in a list of so many."""
+    things = any_things() + [many, many + 1, -many, -many - 1, -2, 400]
+    return [thing for thing in things if type(thing) is not int or not 0 <= thing < many]
+
+
+def few_parts():
+    """Drawings with at most six crossings and rings together."""
+    told = [drawing for drawing in many_drawings(80, 70) if len(drawing[0]) + len(drawing[1]) <= 6]
+    return told + [
+        closing(2, [1] * 6), closing(3, [1, -2, 1, -2, 1, -2]), ([1, 2, 3, 4, 5, 6], []),
+        beside(TREFOIL, ([1, 2, 3], [])), beside(mirrored(CURL), closing(2, [-1, -1])),
+    ]
+
+
+def too_many():
+    """Drawings with just one crossing or ring too many, and with more."""
+    return [
+        closing(2, [1] * 7), ([1, 2, 3, 4, 5, 6, 7], []), beside(closing(2, [-1] * 6), ([1], [])),
+        beside(CURL, ([1, 2, 3, 4, 5, 6], [])), beside(TREFOIL, ([4, 3, 2, 1], [])), closing(6, [1, 2, 3, 4, 5] * 4),
+    ]

@@ -7,17 +7,10 @@ from loopcube.drawings import (
     beside, cords, face_at, is_drawing, knit, mirrored, named_anew, names_of, signs, turned_about,
 )
 from loopcube.errors import NoPlace
-from support import CURL, SIXTY, TREFOIL, any_things, corner_faces, many_drawings, refused, told_as_own
+from support import CURL, SIXTY, TREFOIL, any_things, corner_faces, many_drawings, no_names, refused, told_as_own
 
 HOPF = ([], [(1, 1, 2, 0, 3), (1, 3, 0, 2, 1)])
 OTHER_SIDE = {"left": "right", "right": "left"}
-
-
-def no_names(drawing):
-    """Things of all kinds that are no name of the drawing."""
-    names = names_of(drawing)
-    things = any_things() + [max(names + [0]) + 1, min(names + [0]) - 1, 10 ** 59 + 7]
-    return [thing for thing in things if type(thing) is not int or thing not in names]
 
 
 class Told(unittest.TestCase):

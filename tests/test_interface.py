@@ -16,6 +16,17 @@ INTERFACE = {
         "turned_about": ["drawing"], "named_anew": ["drawing", "by"], "beside": ["one", "other"],
         "knit": ["one", "name", "other", "other_name"], "closing": ["strands", "letters"],
     },
+    "loopcube.moves": {
+        "curled": ["drawing", "e", "sign", "way"], "uncurled": ["drawing", "k"],
+        "poked": ["drawing", "e", "side", "f", "other_side"], "unpoked": ["drawing", "j", "k"],
+        "slid": ["drawing", "e", "side"],
+    },
+    "loopcube.openings": {"loops": ["drawing", "opening"], "turning": ["drawing", "opening", "k"]},
+    "loopcube.words": {
+        "height_of": ["drawing", "word"], "weight_of": ["drawing", "word"],
+        "words_at": ["drawing", "height", "weight"], "places": ["drawing"],
+    },
+    "loopcube.cube": {"leads": ["drawing", "word"], "table_at": ["drawing", "height", "weight"]},
 }
 
 
