@@ -2,7 +2,7 @@
 
 from loopcube.openings import change_at, loops, next_opening
 from loopcube.tables import nought
-from loopcube.words import words_at
+from loopcube.words import all_openings, all_words, words_at
 
 
 def leads(drawing, word):
@@ -70,12 +70,42 @@ def table_at(drawing, height, weight):
 
 def led_table(drawing, columns, rows):
     """The table of the numbers by which each column's word leads to each row's word."""
-    row_of = {word: k for k, word in enumerate(rows)}
-    high, wide, numbers = nought(len(rows), len(columns))
     ways = {}
-    for at, (opening, marks) in enumerate(columns):
+    for opening, marks in columns:
         if opening not in ways:
             ways[opening] = ways_on(drawing, opening)
-        for word, number in words_behind(marks, ways[opening]):
-            numbers[row_of[word]][at] = number
-    return (high, wide, numbers)
+    told = nought(len(rows), len(columns))
+    for at, column in enumerate(led_columns(ways, columns, rows)):
+        for row, number in column.items():
+            told[2][row][at] = number
+    return told
+
+
+def led_columns(ways, columns, rows):
+    """For each column's word a dict from the places of the words to which it leads to the numbers."""
+    row_of = {word: k for k, word in enumerate(rows)}
+    return [
+        {row_of[word]: number for word, number in words_behind(marks, ways[opening])}
+        for opening, marks in columns
+    ]
+
+
+class Cube:
+    """All words of a drawing by (height, weight), and the ways on from each opening, found once."""
+
+    def __init__(self, drawing):
+        self.drawing = drawing
+        self.words = all_words(drawing)
+        self.ways = {opening: ways_on(drawing, opening) for opening in all_openings(drawing)}
+
+    def words_along(self, span, weight):
+        """The lists of words of a weight, one for each height from the least to the greatest of the span."""
+        least, greatest = span
+        return [self.words.get((height, weight), []) for height in range(least, greatest + 1)]
+
+    def columns_along(self, word_lists):
+        """The columns of the row of tables from each list of words to the next one; the last leads nowhere."""
+        return [
+            led_columns(self.ways, words, onward)
+            for words, onward in zip(word_lists, word_lists[1:] + [[]])
+        ]

@@ -45,6 +45,12 @@ def has_name(drawing, name):
     return is_whole(name) and name in names_of(drawing)
 
 
+def refuse_no_name(drawing, name):
+    """Any thing that is no name of the drawing is refused."""
+    if not has_name(drawing, name):
+        raise NoPlace("no stretch or ring has this name")
+
+
 def cords(drawing):
     """For each closed cord its stretches along it from the least one on, in order of first names."""
     rings, crossings = drawing
@@ -133,8 +139,8 @@ def move_behind(one, other):
 
 def knit(one, name, other, other_name):
     """Both drawings beside one another, with a cord of each joined into one at these names."""
-    if not has_name(one, name) or not has_name(other, other_name):
-        raise NoPlace("no stretch or ring has this name")
+    refuse_no_name(one, name)
+    refuse_no_name(other, other_name)
     second = other_name + move_behind(one, other)
     rings, crossings = beside(one, other)
     if second in rings:

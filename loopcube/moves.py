@@ -1,6 +1,6 @@
 """Moves of the cords of a drawing: curls, pokes and slides, put in and taken out."""
 
-from loopcube.drawings import face_at, has_name, names_of
+from loopcube.drawings import face_at, names_of, refuse_no_name
 from loopcube.ends import OVER_IN, OVER_OUT, UNDER_IN, UNDER_OUT, ins_of, outs_of, renamed
 from loopcube.errors import NoMove, NoPlace
 from loopcube.faces import SIDES, face_from, pieces
@@ -137,12 +137,6 @@ def can_slide(names, ins, outs):
 def without(rings, names):
     """The rings but those of these names."""
     return [ring for ring in rings if ring not in names]
-
-
-def refuse_no_name(drawing, name):
-    """Any thing that is no name of the drawing is refused."""
-    if not has_name(drawing, name):
-        raise NoPlace("no stretch or ring has this name")
 
 
 def refuse_no_crossing(drawing, k):

@@ -25,6 +25,9 @@ def plain_form(one):
 
 def divisors(one):
     """The numbers on the way down of the plain form that are not 0."""
+    # A table without rows may be of any width, and one without columns has no numbers either.
+    if one[0] == 0 or one[1] == 0:
+        return []
     left = reduced(one, False)[0]
     return numbers_down(left.rows, one[1])
 

@@ -44,6 +44,30 @@ def places(drawing):
     return {weight: (min(heights[weight]), max(heights[weight])) for weight in sorted(heights)}
 
 
+def places_of_both(one, other):
+    """The places of two drawings together: for each weight the least and the greatest height of either."""
+    spans, other_spans = places(one), places(other)
+    told = {}
+    for weight in sorted(set(spans) | set(other_spans)):
+        found = [each[weight] for each in (spans, other_spans) if weight in each]
+        told[weight] = (min([least for least, greatest in found]), max([greatest for least, greatest in found]))
+    return told
+
+
+def all_words(drawing):
+    """The words by (height, weight), each list in order."""
+    refuse_too_many(drawing)
+    told = {}
+    for opening in all_openings(drawing):
+        many = len(loops(drawing, opening))
+        for marked in range(many + 1):
+            words = [(opening, marks) for marks in bits_with(many, marked)]
+            # As in words_at, one word tells the place of all; openings of one height come in order.
+            place = (height_of(drawing, words[0]), weight_of(drawing, words[0]))
+            told.setdefault(place, []).extend(words)
+    return told
+
+
 def all_openings(drawing):
     """The openings of a drawing, those with fewer 1s first."""
     many = len(drawing[1])
@@ -70,6 +94,11 @@ def some_marks(many, marked):
 
 def refuse_too_many(drawing):
     """Words are told of few crossings and rings alone, as there are so many of them."""
+    refuse_more_parts(drawing, MOST_PARTS)
+
+
+def refuse_more_parts(drawing, most):
+    """A drawing with more crossings and rings together is refused."""
     rings, crossings = drawing
-    if len(rings) + len(crossings) > MOST_PARTS:
-        raise TooMany("more than six crossings and rings")
+    if len(rings) + len(crossings) > most:
+        raise TooMany("more crossings and rings than are reckoned with")

@@ -4,8 +4,10 @@ A pass is (key of a crossing, "under" or "over"). A cord is a list of [name, pas
 name leads to that pass, and behind it the next stretch of the list begins, round about.
 """
 
+import functools
 import itertools
 
+from rows import smith
 from support import ends_against_clock
 
 
@@ -193,8 +195,14 @@ def can_slide_model(drawing, face):
 
 def loops_model(drawing, opening):
     """Point 14: sets that hang together, merged until nothing more is joined."""
-    parts = [{ring} for ring in drawing[0]]
-    for crossing, bit in zip(drawing[1], opening):
+    return [list(loop) for loop in kept_loops(tuple(drawing[0]), tuple(drawing[1]), opening)]
+
+
+@functools.lru_cache(4096)
+def kept_loops(rings, crossings, opening):
+    """The loops as tuples, kept, as many words have one opening."""
+    parts = [{ring} for ring in rings]
+    for crossing, bit in zip(crossings, opening):
         first, second, third, fourth = [name for name, is_in in ends_against_clock(crossing)]
         if bit == 0:
             parts += [{first, second}, {third, fourth}]
@@ -208,7 +216,7 @@ def loops_model(drawing, opening):
                 parts = [part for part in parts if part is not one and part is not other] + [one | other]
                 merged = True
                 break
-    return sorted(sorted(part) for part in parts)
+    return tuple(sorted(tuple(sorted(part)) for part in parts))
 
 
 def turning_model(drawing, opening, k):
@@ -285,3 +293,57 @@ def plain_sum(drawing):
         for power, many in powers.items():
             total[power] = total.get(power, 0) + many
     return {power: many for power, many in total.items() if many}
+
+
+class CubeModel:
+    """The words and the tables of a drawing, kept by places; words may be let by as the asker tells."""
+
+    def __init__(self, drawing, let_by=None, more_weight=0):
+        self.drawing = drawing
+        self.words = {}
+        for (height, weight), words in word_places(drawing).items():
+            kept = [word for word in words if let_by is None or let_by(word)]
+            if kept:
+                self.words[height, weight + more_weight] = kept
+        self.tables = {}
+
+    def size(self, height, weight):
+        """How many words a place has."""
+        return len(self.words.get((height, weight), []))
+
+    def table(self, height, weight):
+        """The rows of the table of a place."""
+        if (height, weight) not in self.tables:
+            columns = self.words.get((height, weight), [])
+            rows = self.words.get((height + 1, weight), [])
+            led = [leads_model(self.drawing, word) for word in columns]
+            self.tables[height, weight] = [[numbers.get(word, 0) for numbers in led] for word in rows]
+        return self.tables[height, weight]
+
+    def groups(self):
+        """The groups by the divisors of each table."""
+        told = {}
+        for height, weight in self.words:
+            going, coming = smith(self.table(height, weight)), smith(self.table(height - 1, weight))
+            group = (self.size(height, weight) - len(going) - len(coming), [number for number in coming if number > 1])
+            if group != (0, []):
+                told[height, weight] = group
+        return told
+
+
+def groups_model(drawing):
+    """Point 20 by the words, with the divisors that the tests find themselves."""
+    return CubeModel(drawing).groups()
+
+
+def groups_without_model(drawing, name):
+    """Point 27 by the words."""
+    return model_without(drawing, name).groups()
+
+
+def model_without(drawing, name):
+    """The words with a name left out, and their tables."""
+    def is_marked(word):
+        return any(mark for loop, mark in zip(loops_model(drawing, word[0]), word[1]) if name in loop)
+
+    return CubeModel(drawing, is_marked, 1)

@@ -215,3 +215,17 @@ def too_many():
         closing(2, [1] * 7), ([1, 2, 3, 4, 5, 6, 7], []), beside(closing(2, [-1] * 6), ([1], [])),
         beside(CURL, ([1, 2, 3, 4, 5, 6], [])), beside(TREFOIL, ([4, 3, 2, 1], [])), closing(6, [1, 2, 3, 4, 5] * 4),
     ]
+
+
+def many_curls(many):
+    """So many rings with a curl each, beside one another: of all drawings these have the most words."""
+    told = ([], [])
+    for k in range(many):
+        told = beside(told, CURL)
+    return told
+
+
+def reordered(chance, drawing):
+    """The drawing with its rings and its crossings in another order."""
+    rings, crossings = drawing
+    return (chance.sample(rings, len(rings)), chance.sample(crossings, len(crossings)))

@@ -27,6 +27,15 @@ INTERFACE = {
         "words_at": ["drawing", "height", "weight"], "places": ["drawing"],
     },
     "loopcube.cube": {"leads": ["drawing", "word"], "table_at": ["drawing", "height", "weight"]},
+    "loopcube.groups": {
+        "row_groups": ["sizes", "tables"], "groups_of": ["drawing"], "gathered": ["numbers"],
+        "products": ["one", "other"],
+    },
+    "loopcube.counts": {
+        "counts_of": ["drawing"], "plain_counts": ["drawing"], "times_counts": ["one", "other"],
+    },
+    "loopcube.splits": {"split": ["sizes", "tables"]},
+    "loopcube.likeness": {"likeness": ["one", "other"]},
 }
 
 
