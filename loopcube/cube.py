@@ -94,7 +94,6 @@ class Cube:
     """All words of a drawing by (height, weight), and the ways on from each opening, found once."""
 
     def __init__(self, drawing):
-        self.drawing = drawing
         self.words = all_words(drawing)
         self.ways = {opening: ways_on(drawing, opening) for opening in all_openings(drawing)}
 

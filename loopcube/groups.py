@@ -5,7 +5,7 @@ from loopcube.fitting import refuse_no_row
 from loopcube.plainform import divisors
 from loopcube.splits import parts_of
 from loopcube.wholes import common_divisor
-from loopcube.words import places
+from loopcube.words import spans_of
 
 
 def row_groups(sizes, tables):
@@ -31,7 +31,7 @@ def groups_of(drawing):
 def groups_in(cube):
     """The groups by (height, weight) of all words of a cube."""
     told = {}
-    for weight, span in places(cube.drawing).items():
+    for weight, span in spans_of(list(cube.words)).items():
         put_groups(told, cube, cube.words_along(span, weight), span[0], weight)
     return told
 

@@ -4,7 +4,7 @@ from loopcube.cube import Cube
 from loopcube.groups import groups_in
 from loopcube.splits import parts_of
 from loopcube.tables import nought
-from loopcube.words import places_of_both
+from loopcube.words import spans_of
 
 
 def likeness(one, other):
@@ -34,7 +34,7 @@ def first_unlike(groups, other_groups):
 def paper_for(cube, other_cube):
     """A paper that stands for two drawings whose groups are alike."""
     paper = []
-    for weight, span in places_of_both(cube.drawing, other_cube.drawing).items():
+    for weight, span in spans_of(list(cube.words) + list(other_cube.words)).items():
         parts, other_parts = parts_along(cube, span, weight), parts_along(other_cube, span, weight)
         for at in range(len(parts)):
             paper.append((
@@ -72,7 +72,7 @@ def parts_with_groups(parts):
 
 
 def filled(parts, at):
-    """The table that takes each part that is led to by 1 back along that, less than nought."""
+    """The table that takes each part that is led to by 1 back along that, with the sign turned."""
     told = nought(len(parts[at - 1]) if at > 0 else 0, len(parts[at]))
     for mark, column, row in parts[at]:
         if mark[0] == "from" and mark[2] == 1:

@@ -3,8 +3,8 @@
 from loopcube.fitting import refuse_no_row
 from loopcube.lightrow import LightRow
 from loopcube.plainform import numbers_down, plain_form
-from loopcube.sums import few_numbers, summed
-from loopcube.tables import nought, product, turned_rows, unit
+from loopcube.sums import columns_of, summed
+from loopcube.tables import nought, product, unit
 
 
 def split(sizes, tables):
@@ -12,12 +12,6 @@ def split(sizes, tables):
     refuse_no_row(sizes, tables)
     columns = [columns_of(table) for table in tables] + [[{} for place in range(sizes[-1])]]
     return [told_parts(parts) for parts in parts_of(columns)]
-
-
-def columns_of(table):
-    """The columns of a table as dicts from rows' places to the numbers that are not 0."""
-    high, wide, rows = table
-    return few_numbers(turned_rows(rows, wide))
 
 
 def told_parts(parts):

@@ -1,5 +1,7 @@
 """Dicts of whole numbers other than 0, as rows or columns that have few of them, and their sums."""
 
+from loopcube.tables import turned_rows
+
 
 def add_to(numbers, times, more):
     """The numbers of a dict get those of another one so many times; none of them is 0 then."""
@@ -19,6 +21,10 @@ def summed(parts):
     return told
 
 
-def few_numbers(rows):
-    """For each row a dict from places to the numbers that are not 0."""
-    return [{k: number for k, number in enumerate(row) if number != 0} for row in rows]
+def columns_of(table):
+    """The columns of a table as dicts from the rows' places to the numbers that are not 0."""
+    high, wide, rows = table
+    return [
+        {k: number for k, number in enumerate(column) if number != 0}
+        for column in turned_rows(rows, wide)
+    ]

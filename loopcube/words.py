@@ -34,24 +34,15 @@ def words_at(drawing, height, weight):
 
 def places(drawing):
     """For each weight that some word has the least and the greatest height at it."""
-    refuse_too_many(drawing)
+    return spans_of(list(all_words(drawing)))
+
+
+def spans_of(found):
+    """For each weight of a list of places (height, weight) the least and the greatest height at it."""
     heights = {}
-    for opening in all_openings(drawing):
-        many = len(loops(drawing, opening))
-        for marked in range(many + 1):
-            word = (opening, some_marks(many, marked))
-            heights.setdefault(weight_of(drawing, word), []).append(height_of(drawing, word))
+    for height, weight in found:
+        heights.setdefault(weight, []).append(height)
     return {weight: (min(heights[weight]), max(heights[weight])) for weight in sorted(heights)}
-
-
-def places_of_both(one, other):
-    """The places of two drawings together: for each weight the least and the greatest height of either."""
-    spans, other_spans = places(one), places(other)
-    told = {}
-    for weight in sorted(set(spans) | set(other_spans)):
-        found = [each[weight] for each in (spans, other_spans) if weight in each]
-        told[weight] = (min([least for least, greatest in found]), max([greatest for least, greatest in found]))
-    return told
 
 
 def all_words(drawing):

@@ -36,6 +36,14 @@ INTERFACE = {
     },
     "loopcube.splits": {"split": ["sizes", "tables"]},
     "loopcube.likeness": {"likeness": ["one", "other"]},
+    "loopcube.looker": {"stands": ["one", "other", "paper"]},
+    "loopcube.leftout": {
+        "words_without": ["drawing", "name", "height", "weight"],
+        "table_without": ["drawing", "name", "height", "weight"], "groups_without": ["drawing", "name"],
+    },
+    "loopcube.texts": {
+        "show_drawing": ["drawing"], "show_groups": ["groups"], "show_counts": ["counts"], "read_drawing": ["text"],
+    },
 }
 
 
@@ -47,6 +55,13 @@ class Interface(unittest.TestCase):
                 function = getattr(module, name)
                 self.assertEqual(function.__module__, module_name)
                 self.assertEqual(list(inspect.signature(function).parameters), arguments, name)
+
+    def test_desk(self):
+        desk = importlib.import_module("loopcube.desk").Desk
+        self.assertEqual(desk.__module__, "loopcube.desk")
+        self.assertEqual(list(inspect.signature(desk).parameters), [])
+        # The method stands in the class itself.
+        self.assertEqual(list(inspect.signature(vars(desk)["say"]).parameters), ["self", "row"])
 
 
 if __name__ == "__main__":

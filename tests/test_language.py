@@ -128,6 +128,31 @@ class Language(unittest.TestCase):
                 if isinstance(step, ast.Call) and isinstance(step.func, ast.Attribute):
                     self.assertIn(step.func.attr, METHODS | own, path.name)
 
+    def test_stars_and_what_is_iterated_at_once(self):
+        # Behind a star only what is written out or named; what is iterated at once is given no name.
+        plain = (ast.Name, ast.Attribute, ast.Constant, ast.List, ast.Tuple)
+        at_once = {"zip", "enumerate", "reversed", "range"}
+        for path, text, tree in sources():
+            for step in ast.walk(tree):
+                if isinstance(step, ast.Call):
+                    for part in step.args:
+                        if isinstance(part, ast.Starred):
+                            self.assertIsInstance(part.value, plain, path.name)
+                if isinstance(step, (ast.Assign, ast.Return)) and isinstance(step.value, ast.Call):
+                    deed = step.value.func
+                    self.assertNotIn(getattr(deed, "id", None), at_once, path.name)
+                    self.assertNotIn(getattr(deed, "attr", None), {"items", "keys", "values"}, path.name)
+
+    def test_methods_and_attributes_have_names_of_their_own(self):
+        methods, attributes = set(), set()
+        for path, text, tree in sources():
+            for step in ast.walk(tree):
+                if isinstance(step, ast.ClassDef):
+                    methods.update(part.name for part in step.body if isinstance(part, ast.FunctionDef))
+                if isinstance(step, ast.Attribute) and isinstance(step.ctx, ast.Store):
+                    attributes.add(step.attr)
+        self.assertFalse(methods & attributes)
+
     def test_steps(self):
         for path, text, tree in sources():
             for step in ast.walk(tree):
